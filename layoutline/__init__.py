@@ -1,0 +1,1 @@
+"""Layoutline: classes whose objects are laid out once."""

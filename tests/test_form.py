@@ -1,0 +1,147 @@
+"""The form of the code: where the interface is defined, and the rules that a script can see."""
+
+import ast
+import builtins
+import os
+import re
+import tokenize
+import unittest
+
+PACKAGE = os.path.join(os.path.dirname(os.path.dirname(os.path.abspath(__file__))), "layoutline")
+
+# By file: the functions, and by class the methods, each with its parameters behind the first one.
+FUNCTIONS = {"orders.py": {"merge": ["lists"], "shows_merge": ["lists", "paper"]}}
+CLASSES = {
+    "layouts.py": {
+        "Layout": {
+            "__init__": ["fields", "has_room"], "fields": [], "has_room": [], "with_room": [], "offset_of": ["name"],
+            "first_difference": ["other"], "__len__": [], "__getitem__": None, "__contains__": None, "__add__": None,
+            "__le__": None, "__eq__": None, "__repr__": [],
+        },
+    },
+}
+
+BUILTINS = [
+    "len", "range", "enumerate", "zip", "min", "max", "sum", "abs", "sorted", "reversed", "int", "str", "bool", "list",
+    "tuple", "dict", "set", "isinstance", "ord", "repr", "any", "all", "divmod", "ValueError", "TypeError", "KeyError",
+    "IndexError", "LookupError", "NotImplemented",
+]
+
+BARRED_WORDS = [
+    "type", "typing", "typing_extensions", "enum", "Enum", "IntEnum", "StrEnum", "Flag", "IntFlag", "Generic",
+    "Protocol", "ABC", "ABCMeta", "namedtuple", "NamedTuple", "TypedDict", "TYPE_CHECKING", "abstractmethod",
+    "register", "mro", "elements", "open", "input", "law", "version_info", "with_traceback", "add_note", "_wall",
+]
+
+
+def paths():
+    return sorted(os.path.join(PACKAGE, name) for name in os.listdir(PACKAGE) if name != "__pycache__")
+
+
+def text_of(path):
+    with open(path, encoding="utf-8", newline="") as file:
+        return file.read()
+
+
+def tree_of(path):
+    return ast.parse(text_of(path))
+
+
+def nodes_of(path, kinds):
+    return [node for node in ast.walk(tree_of(path)) if isinstance(node, kinds)]
+
+
+def parameters(function):
+    return [argument.arg for argument in function.args.args]
+
+
+class Interface(unittest.TestCase):
+
+    def test_functions_stand_in_their_files(self):
+        for name, functions in FUNCTIONS.items():
+            body = tree_of(os.path.join(PACKAGE, name)).body
+            defined = {node.name: parameters(node) for node in body if isinstance(node, ast.FunctionDef)}
+            for function, wanted in functions.items():
+                self.assertEqual(defined[function], wanted)
+
+    def test_methods_stand_in_their_classes(self):
+        for name, classes in CLASSES.items():
+            body = tree_of(os.path.join(PACKAGE, name)).body
+            found = {node.name: node for node in body if isinstance(node, ast.ClassDef)}
+            for kind, methods in classes.items():
+                own = {node.name: parameters(node) for node in found[kind].body if isinstance(node, ast.FunctionDef)}
+                for method, wanted in methods.items():
+                    self.assertIn(method, own)
+                    if wanted is not None:
+                        self.assertEqual(own[method][1:], wanted)
+
+
+class Rules(unittest.TestCase):
+
+    def test_files_and_characters(self):
+        for path in paths():
+            self.assertRegex(os.path.basename(path), r"^[a-z_]+\.py$")
+            self.assertRegex(text_of(path), r"^[ -~\n]*\Z")
+
+    def test_sizes(self):
+        for path in paths():
+            lines = text_of(path).split("\n")
+            self.assertLessEqual(len(lines), 399, path)
+            self.assertLessEqual(max(map(len, lines)), 120, path)
+            for node in nodes_of(path, ast.FunctionDef):
+                self.assertLessEqual(node.end_lineno - node.lineno + 1, 40, node.name)
+
+    def test_imports_come_from_the_very_file(self):
+        for path in paths():
+            self.assertEqual(nodes_of(path, ast.Import), [])
+            for node in nodes_of(path, ast.ImportFrom):
+                self.assertRegex(node.module, r"^layoutline\.[a-z]+$")
+                source = tree_of(os.path.join(PACKAGE, node.module.split(".")[1] + ".py"))
+                defined = [part.name for part in source.body if isinstance(part, (ast.FunctionDef, ast.ClassDef))]
+                for alias in node.names:
+                    self.assertIn(alias.name, defined)
+                    self.assertIsNone(alias.asname)
+
+    def test_module_level(self):
+        kinds = (ast.Expr, ast.ImportFrom, ast.FunctionDef, ast.ClassDef, ast.Assign)
+        for path in paths():
+            for node in tree_of(path).body:
+                self.assertIsInstance(node, kinds)
+                if isinstance(node, ast.Expr):
+                    self.assertIsInstance(node.value.value, str)
+
+    def test_no_decorators_floats_or_divisions(self):
+        for path in paths():
+            for node in nodes_of(path, (ast.FunctionDef, ast.ClassDef)):
+                self.assertEqual(node.decorator_list, [])
+            self.assertEqual(nodes_of(path, (ast.Div, ast.Global, ast.AsyncFunctionDef, ast.Await)), [])
+            for node in nodes_of(path, ast.Constant):
+                self.assertNotIsInstance(node.value, (float, complex))
+
+    def test_builtins(self):
+        for path in paths():
+            for node in nodes_of(path, ast.Name):
+                if node.id in dir(builtins):
+                    self.assertIn(node.id, BUILTINS, path)
+                    self.assertIsInstance(node.ctx, ast.Load, path)
+            for node in nodes_of(path, ast.arg):
+                self.assertNotIn(node.arg, dir(builtins), path)
+
+    def test_is_stands_with_none_true_and_false(self):
+        for path in paths():
+            for node in nodes_of(path, ast.Compare):
+                for sign, right in zip(node.ops, node.comparators):
+                    if isinstance(sign, (ast.Is, ast.IsNot)):
+                        self.assertIsInstance(right, ast.Constant)
+                        self.assertIn(right.value, (None, True, False))
+
+    def test_barred_words(self):
+        for path in paths():
+            with open(path, "rb") as file:
+                tokens = [token for token in tokenize.tokenize(file.readline) if token.type != tokenize.COMMENT]
+            words = [word for token in tokens for word in re.findall(r"\w+", token.string)]
+            self.assertEqual([word for word in words if word in BARRED_WORDS], [], path)
+
+
+if __name__ == "__main__":
+    unittest.main()
