@@ -1,7 +1,7 @@
 """Layouts: which field stands at which offset of an object."""
 
-from layoutline.checks import check_more_fields, check_names
-from layoutline.errors import BadList, BadName, BadOffset
+from layoutline.checks import check_more_fields, check_name, check_names
+from layoutline.errors import BadList, BadOffset
 from layoutline.kinds import is_int, is_name
 
 
@@ -31,8 +31,7 @@ class Layout:
 
     def offset_of(self, name):
         """Return the greatest offset at which a name stands, or None."""
-        if not is_name(name):
-            raise BadName(name)
+        check_name(name)
         for offset in reversed(range(len(self._fields))):
             if self._fields[offset] == name:
                 return offset

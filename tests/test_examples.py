@@ -4,49 +4,53 @@ import doctest
 import os
 import unittest
 
-from layoutline.errors import Duplicate
-from layoutline.layouts import Layout
-from layoutline.orders import merge, shows_merge
-from tests.helpers import Case
+from layoutline import errors
 
-README = os.path.join(os.path.dirname(os.path.dirname(os.path.abspath(__file__))), "README.md")
+HERE = os.path.dirname(os.path.abspath(__file__))
+README = os.path.join(os.path.dirname(HERE), "README.md")
 
-
-class LayoutExamples(Case):
-
-    def test_reading(self):
-        layout = Layout(['a', 'b']) + ['a']
-        found = [layout, len(layout), layout[2], layout.offset_of('a'), 'c' in layout]
-        self.assertEqual(found, [Layout(['a', 'b', 'a'], False), 3, 'a', 2, False])
-        self.assertEqual(repr(found), "[Layout(['a', 'b', 'a'], False), 3, 'a', 2, False]")
-
-    def test_comparing(self):
-        found = [
-            Layout(['a']) <= Layout(['a', 'b']), Layout(['a'], True) <= Layout(['a', 'b']),
-            Layout(['a']).first_difference(Layout(['a'], True)),
-        ]
-        self.assertEqual(found, [True, False, 1])
-
-    def test_adding_a_duplicate(self):
-        self.assert_raises(Duplicate, lambda: Layout(['a']) + ['b', 'b'], thing='b')
+# The examples as they stand in the document, with an empty line between two of them.
+EXAMPLES = os.path.join(HERE, "examples.txt")
+PROMPT = ">>> "
 
 
-class OrderExamples(Case):
+def read_examples():
+    """Return for each example its statements and what its last statement returns or raises."""
+    with open(EXAMPLES, encoding="ascii") as file:
+        blocks = file.read().strip("\n").split("\n\n")
+    examples = []
+    for block in blocks:
+        lines = block.split("\n")
+        assert all(line.startswith(PROMPT) for line in lines[:-1])
+        examples.append(([line[len(PROMPT):] for line in lines[:-1]], lines[-1]))
+    return examples
 
-    def test_an_order(self):
-        self.assertEqual(merge([[1, 0], [2, 0], [1, 2]]), ('order', [1, 2, 0]))
 
-    def test_a_ring(self):
-        lists = [[1, 2], [2, 1]]
-        self.assertEqual([merge(lists)[0], shows_merge(lists, ('ring', [(1, 0), (2, 1)]))], ['ring', True])
+def told_by(statement, names):
+    """Return what a statement returns or raises, written as the document writes it."""
+    try:
+        return repr(eval(statement, names))
+    except errors.LineError as error:
+        fields = [f"{name}={value!r}" for name, value in vars(error).items() if name != "why"]
+        if isinstance(error, errors.BadList):
+            fields = [f"why={error.why!r}"]
+        return f"raises {type(error).__name__}({', '.join(fields)})"
 
-    def test_papers(self):
-        lists = [[1, 2], [2, 3]]
-        found = [shows_merge(lists, ('order', [1, 2, 3])), shows_merge(lists, ('order', [2, 1, 3]))]
-        self.assertEqual(found, [True, False])
 
-    def test_a_duplicate(self):
-        self.assert_raises(Duplicate, merge, [[3, 4, 3]], thing=3)
+class Document(unittest.TestCase):
+
+    def test_its_examples(self):
+        examples = read_examples()
+        self.assertEqual(len(examples), 33)
+        for statements, told in examples:
+            with self.subTest(statements=statements):
+                names = {}
+                for statement in statements[:-1]:
+                    exec(statement, names)
+                found = told_by(statements[-1], names)
+                if told.startswith("raises ") and "(" not in told:
+                    found = found.split("(")[0]
+                self.assertEqual(found, told)
 
 
 class Readme(unittest.TestCase):

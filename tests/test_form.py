@@ -10,13 +10,39 @@ import unittest
 PACKAGE = os.path.join(os.path.dirname(os.path.dirname(os.path.abspath(__file__))), "layoutline")
 
 # By file: the functions, and by class the methods, each with its parameters behind the first one.
-FUNCTIONS = {"orders.py": {"merge": ["lists"], "shows_merge": ["lists", "paper"]}}
+# Parameters behind a star are passed by name only.
+FUNCTIONS = {
+    "orders.py": {"merge": ["lists"], "shows_merge": ["lists", "paper"]},
+    "finding.py": {
+        "find": ["world", "number", "name"], "reader": ["world", "number", "name"], "names_of": ["world", "number"],
+        "hidden": ["world", "number"], "could_meet": ["world", "numbers"],
+    },
+    "changes.py": {
+        "set_value": ["world", "number", "name", "value"], "drop_value": ["world", "number", "name"],
+        "set_bases": ["world", "number", "bases"], "spoilt_by": ["world", "number", "bases"],
+    },
+}
 CLASSES = {
     "layouts.py": {
         "Layout": {
             "__init__": ["fields", "has_room"], "fields": [], "has_room": [], "with_room": [], "offset_of": ["name"],
             "first_difference": ["other"], "__len__": [], "__getitem__": None, "__contains__": None, "__add__": None,
             "__le__": None, "__eq__": None, "__repr__": [],
+        },
+    },
+    "worlds.py": {
+        "World": {
+            "__init__": [], "make_class": ["bases", "fields", "*", "roomy", "pairs"], "order": ["number"],
+            "line": ["number"], "owner": ["number"], "layout": ["number"], "count": [], "living": ["number"],
+            "bases": ["number"], "fields": ["number"], "below": ["number"], "values": ["number"],
+            "declares_room": ["number"],
+        },
+    },
+    "objects.py": {
+        "Objects": {
+            "__init__": ["world"], "new": ["number"], "class_of": ["item"], "drop": ["item"], "alive": [],
+            "read": ["item", "name"], "write": ["item", "name", "value"], "erase": ["item", "name"],
+            "cells": ["item"], "room": ["item"], "set_class": ["item", "number"], "twins": ["number"],
         },
     },
 }
@@ -52,7 +78,21 @@ def nodes_of(path, kinds):
 
 
 def parameters(function):
-    return [argument.arg for argument in function.args.args]
+    behind = [argument.arg for argument in function.args.kwonlyargs]
+    return [argument.arg for argument in function.args.args] + (["*", *behind] if behind else [])
+
+
+def defined_names(path):
+    """Return the names of the functions, classes and constants that a file defines."""
+    body = tree_of(path).body
+    constants = [target.id for node in body if isinstance(node, ast.Assign) for target in node.targets]
+    return constants + [node.name for node in body if isinstance(node, (ast.FunctionDef, ast.ClassDef))]
+
+
+def calls_of(path, names):
+    """Return the calls of the functions of these names, and of no methods."""
+    calls = nodes_of(path, ast.Call)
+    return [node for node in calls if isinstance(node.func, ast.Name) and node.func.id in names]
 
 
 class Interface(unittest.TestCase):
@@ -96,8 +136,7 @@ class Rules(unittest.TestCase):
             self.assertEqual(nodes_of(path, ast.Import), [])
             for node in nodes_of(path, ast.ImportFrom):
                 self.assertRegex(node.module, r"^layoutline\.[a-z]+$")
-                source = tree_of(os.path.join(PACKAGE, node.module.split(".")[1] + ".py"))
-                defined = [part.name for part in source.body if isinstance(part, (ast.FunctionDef, ast.ClassDef))]
+                defined = defined_names(os.path.join(PACKAGE, node.module.split(".")[1] + ".py"))
                 for alias in node.names:
                     self.assertIn(alias.name, defined)
                     self.assertIsNone(alias.asname)
@@ -121,11 +160,49 @@ class Rules(unittest.TestCase):
     def test_builtins(self):
         for path in paths():
             for node in nodes_of(path, ast.Name):
-                if node.id in dir(builtins):
+                # The examples of the README bind _ among the builtins.
+                if node.id in dir(builtins) and node.id != "_":
                     self.assertIn(node.id, BUILTINS, path)
                     self.assertIsInstance(node.ctx, ast.Load, path)
             for node in nodes_of(path, ast.arg):
                 self.assertNotIn(node.arg, dir(builtins), path)
+
+    def test_no_name_stands_for_two_things(self):
+        for path in paths():
+            imported = [alias.name for node in nodes_of(path, ast.ImportFrom) for alias in node.names]
+            classes = [node.name for node in nodes_of(path, ast.ClassDef)]
+            taken = [*imported, *classes, *defined_names(path)]
+            self.assertEqual(len(taken), len(set(taken)) + len(classes), path)
+            for function in nodes_of(path, ast.FunctionDef):
+                for node in ast.walk(function):
+                    if isinstance(node, ast.arg):
+                        self.assertNotIn(node.arg, taken, path)
+                    if isinstance(node, ast.Name) and isinstance(node.ctx, ast.Store):
+                        self.assertNotIn(node.id, taken, path)
+
+    def test_methods_and_attributes_have_unlike_names(self):
+        classes = [node for path in paths() for node in nodes_of(path, ast.ClassDef)]
+        methods = [node.name for kind in classes for node in kind.body if isinstance(node, ast.FunctionDef)]
+        used = [node for path in paths() for node in nodes_of(path, ast.Attribute)]
+        stored = [node.attr for node in used if isinstance(node.ctx, ast.Store)]
+        self.assertEqual(sorted(set(stored) & set(methods)), [])
+        self.assertEqual([name for name in ("keys", "items", "add", "discard", "sort") if name in methods], [])
+        known = [*stored, *methods, *dir([]), *dir({}), *dir(""), "add"]
+        self.assertEqual([node.attr for node in used if node.attr not in known], [])
+
+    def test_methods_that_layouts_bar(self):
+        for path in paths():
+            for node in nodes_of(path, ast.Attribute):
+                self.assertNotIn(node.attr, ("sort", "keys", "values"), path)
+            self.assertEqual(nodes_of(path, ast.GeneratorExp), [], path)
+
+    def test_sorting_goes_over_plain_numbers_and_strings(self):
+        for path in paths():
+            for node in calls_of(path, ("sorted", "min", "max")):
+                if [keyword.value.id for keyword in node.keywords if keyword.arg == "key"] == ["len"]:
+                    continue
+                plain = [node.args[0].elt] if isinstance(node.args[0], ast.ListComp) else node.args
+                self.assertTrue(all(part.func.id in ("len", "int", "str") for part in plain), path)
 
     def test_is_stands_with_none_true_and_false(self):
         for path in paths():

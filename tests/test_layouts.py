@@ -5,13 +5,7 @@ import unittest
 
 from layoutline.errors import BadList, BadName, BadOffset, Duplicate, TooMany
 from layoutline.layouts import Layout
-from tests.helpers import Case, EqualToAll, Incomparable, odd_values
-
-# The letters at the end look like a to z, or stand right beside them, and are none of them.
-NOT_NAMES = [
-    "", "A", "aB", "abcdefghi", "a b", " a", "a ", "a\n", "\n", "a1", "1", "_", "a_b", "-", "a.b", "\u00e4", "\u00df",
-    "\u0430", "\uff41", "\u00aa", "a\u0301", "`", "{", "a`", "z{", "\x00",
-]
+from tests.helpers import NOT_NAMES, Case, EqualToAll, Incomparable, odd_values
 
 
 def all_layouts(names, longest):

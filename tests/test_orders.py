@@ -7,19 +7,7 @@ import unittest
 from layoutline.errors import BadList, Duplicate, TooMany
 from layoutline.orders import merge, shows_merge
 from tests.helpers import Case, EqualToAll, Incomparable, odd_values
-
-
-def plain_merge(lists):
-    """Return the order, or None, as point 1.1 says it, word by word."""
-    rests = [list(items) for items in lists]
-    order = []
-    while any(rests):
-        free = [rest[0] for rest in rests if rest and not any(rest[0] in other[1:] for other in rests)]
-        if not free:
-            return None
-        order.append(free[0])
-        rests = [rest[1:] if rest and rest[0] == free[0] else rest for rest in rests]
-    return order
+from tests.model import plain_merge
 
 
 def plain_ring(lists, ring):
