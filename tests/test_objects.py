@@ -260,6 +260,9 @@ class Erase(Start):
         self.assert_refused(NotSet, self.objects.erase, item, "b", name="b")
         self.objects.write(item, "b", 3)
         self.assertEqual(self.objects.read(item, "b"), 3)
+        self.objects.erase(item, "a")
+        self.assertEqual(self.objects.cells(item), [("unset",), ("set", 3), ("unset",), ("unset",)])
+        self.assert_refused(NotSet, self.objects.erase, item, "a", name="a")
 
     def test_the_room(self):
         item = self.objects.new(5)
