@@ -1,6 +1,6 @@
 """Objects: cells and rooms, laid out once by the class of each object."""
 
-from layoutline.checks import check_class, check_value
+from layoutline.checks import check_value
 from layoutline.errors import NoName, NoObject, NotSet, OtherLayout, TooMany
 from layoutline.finding import find
 from layoutline.kinds import is_int

@@ -75,6 +75,12 @@ class SetValue(Case):
         self.assertEqual(set_value(world, 1, "g", 1), [(1, "g")])
         self.assert_raises(TooMany, set_value, world, 1, "b", 1, limit=6)
 
+    def test_names_of_eight_letters(self):
+        world = World()
+        self.assertEqual(set_value(world, 0, "abcdefgh", 1), [(0, "abcdefgh")])
+        self.assert_raises(BadName, set_value, world, 0, "abcdefghi", 1, name="abcdefghi")
+        self.assertEqual(drop_value(world, 0, "abcdefgh"), [(0, "abcdefgh")])
+
     def test_names_above_and_below_do_not_matter(self):
         world = world_of(([0], ["x"]), ([1], []), ([2], ["x"]))
         set_value(world, 2, "x", 1)

@@ -141,6 +141,13 @@ class Rules(unittest.TestCase):
                     self.assertIn(alias.name, defined)
                     self.assertIsNone(alias.asname)
 
+    def test_all_that_is_imported_or_private_is_used(self):
+        for path in paths():
+            read = [node.id for node in nodes_of(path, ast.Name) if isinstance(node.ctx, ast.Load)]
+            imported = [alias.name for node in nodes_of(path, ast.ImportFrom) for alias in node.names]
+            private = [node.name for node in tree_of(path).body if getattr(node, "name", "").startswith("_")]
+            self.assertEqual([name for name in imported + private if name not in read], [], path)
+
     def test_module_level(self):
         kinds = (ast.Expr, ast.ImportFrom, ast.FunctionDef, ast.ClassDef, ast.Assign)
         for path in paths():
