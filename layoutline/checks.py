@@ -26,6 +26,14 @@ def check_class(number, many):
         raise NoClass(number)
 
 
+def check_classes(numbers, many):
+    """Raise unless numbers is a list of classes where there are so many."""
+    if not isinstance(numbers, list):
+        raise BadList("classes")
+    for number in numbers:
+        check_class(number, many)
+
+
 def check_names(fields):
     """Raise unless fields is a list of names."""
     if not isinstance(fields, list):

@@ -1,7 +1,6 @@
 """Finding: what a class has by a name, and what hides what."""
 
-from layoutline.checks import check_class, check_name
-from layoutline.errors import BadList
+from layoutline.checks import check_class, check_classes, check_name
 from layoutline.shapes import collision_of
 from layoutline.tables import sorted_names
 
@@ -42,10 +41,7 @@ def hidden(world, number):
 
 def could_meet(world, numbers):
     """Return None if the owners of some classes lie on one line, else (owners, offset, names) of two."""
-    if not isinstance(numbers, list):
-        raise BadList("classes")
-    for number in numbers:
-        check_class(number, world.count())
+    check_classes(numbers, world.count())
     return collision_of(numbers, world.shapes())
 
 

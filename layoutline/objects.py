@@ -2,7 +2,7 @@
 
 from layoutline.checks import check_value
 from layoutline.errors import NoName, NoObject, NotSet, OtherLayout, TooMany
-from layoutline.finding import find
+from layoutline.finding import reader
 from layoutline.kinds import is_int
 from layoutline.tables import pairs_of
 
@@ -53,39 +53,17 @@ class Objects:
 
     def read(self, item, name):
         """Return the value that an object has by a name."""
-        body = self._body(item)
-        found = find(self._world, body.class_number, name)
-        if _is_field(found):
-            return _full_cell(body, found[2], name)[1]
-        if body.room_table is not None and name in body.room_table:
-            return body.room_table[name]
-        if found is None:
-            raise NoName(name)
-        return found[2]
+        return self.read_by(item, name, self._reader(item, name))
 
     def write(self, item, name, value):
         """Set the cell of a field, or put a value into the room."""
-        body = self._body(item)
-        found = find(self._world, body.class_number, name)
+        right = self._reader(item, name)
         check_value(value)
-        if _is_field(found):
-            body.cell_list[found[2]] = ("set", value)
-            return
-        if body.room_table is None:
-            raise NoName(name)
-        body.room_table[name] = value
+        self.write_by(item, name, value, right)
 
     def erase(self, item, name):
         """Unset the cell of a field, or take a name out of the room."""
-        body = self._body(item)
-        found = find(self._world, body.class_number, name)
-        if _is_field(found):
-            _full_cell(body, found[2], name)
-            body.cell_list[found[2]] = ("unset",)
-            return
-        if body.room_table is None or name not in body.room_table:
-            raise NoName(name)
-        del body.room_table[name]
+        self.erase_by(item, name, self._reader(item, name))
 
     def cells(self, item):
         """Return by offset ("set", value) or ("unset",)."""
@@ -112,15 +90,57 @@ class Objects:
         layout = self._world.layout(number)
         return [place for place in range(self._world.count()) if self._world.layout(place) == layout]
 
+    def world(self):
+        """Return the world of the objects."""
+        return self._world
+
+    # The next three take a reader that may be no longer right, as it was kept through changes.
+
+    def read_by(self, item, name, kept):
+        """Return the value that an object has by a name, where a reader says what is found."""
+        body = self._body(item)
+        if _has_cell(body, kept):
+            return _full_cell(body, kept[1], name)[1]
+        if body.room_table is not None and name in body.room_table:
+            return body.room_table[name]
+        table = {} if kept is None or kept[0] == "field" else self._world.table(kept[1])
+        if name not in table:
+            raise NoName(name)
+        return table[name]
+
+    def write_by(self, item, name, value, kept):
+        """Set the cell that a reader tells, or put a value into the room."""
+        body = self._body(item)
+        if _has_cell(body, kept):
+            body.cell_list[kept[1]] = ("set", value)
+            return
+        if body.room_table is None:
+            raise NoName(name)
+        body.room_table[name] = value
+
+    def erase_by(self, item, name, kept):
+        """Unset the cell that a reader tells, or take a name out of the room."""
+        body = self._body(item)
+        if _has_cell(body, kept):
+            _full_cell(body, kept[1], name)
+            body.cell_list[kept[1]] = ("unset",)
+            return
+        if body.room_table is None or name not in body.room_table:
+            raise NoName(name)
+        del body.room_table[name]
+
     def _body(self, item):
         if not is_int(item) or item not in self._bodies:
             raise NoObject(item)
         return self._bodies[item]
 
+    def _reader(self, item, name):
+        return reader(self._world, self._body(item).class_number, name)
 
-def _is_field(found):
-    """Tell whether find found a field."""
-    return found is not None and found[0] == "field"
+
+def _has_cell(body, kept):
+    """Tell whether a reader tells a cell that the object has."""
+    return kept is not None and kept[0] == "field" and kept[1] < len(body.cell_list)
 
 
 def _full_cell(body, offset, name):

@@ -88,6 +88,10 @@ class World:
         """Return by class the tables from its names to its values."""
         return [dict(table) for table in self._tables]
 
+    def table(self, number):
+        """Return the table from the names to the values of a class."""
+        return dict(self._tables[number])
+
     def replace_shapes(self, shapes):
         """Take other shapes of all classes, as a change of bases makes them."""
         self._shapes = list(shapes)

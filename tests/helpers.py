@@ -2,13 +2,22 @@
 
 import unittest
 
-from layoutline.errors import Collision, NoOrder
+from layoutline.errors import BadList, Collision, Duplicate, NoClass, NoOrder, TooMany
 from layoutline.orders import merge, shows_merge
 
 # The letters at the end look like a to z, or stand right beside them, and are none of them.
 NOT_NAMES = [
     "", "A", "aB", "abcdefghi", "a b", " a", "a ", "a\n", "\n", "a1", "1", "_", "a_b", "-", "a.b", "\u00e4", "\u00df",
     "\u0430", "\uff41", "\u00aa", "a\u0301", "`", "{", "a`", "z{", "\x00",
+]
+
+# Wrong bases in the order in which their errors are stated, each with faults stated later; 6 must be a class.
+WRONG_BASES = [
+    ((0, "no list"), BadList, {"why": "bases"}),
+    ([], BadList, {"why": "bases"}),
+    ([1, 1, 26, 27, 2, 3, 4], NoClass, {"number": 26}),
+    ([1, 2, 3, 4, 5, 2, 1], Duplicate, {"thing": 2}),
+    ([1, 2, 3, 4, 5, 6], TooMany, {"limit": 5}),
 ]
 
 

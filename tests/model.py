@@ -1,6 +1,7 @@
-"""A plain model of worlds and objects, as the document says it word by word; nothing is kept that can be asked."""
+"""A plain model of worlds, objects and machines, as the document says it; nothing is kept that can be asked."""
 
 import copy
+import itertools
 
 
 class Refused(Exception):
@@ -23,6 +24,20 @@ def plain_merge(lists):
         order.append(free[0])
         rests = [rest[1:] if rest and rest[0] == free[0] else rest for rest in rests]
     return order
+
+
+def plain_ring(lists, ring):
+    """Tell whether a list of tuples of two integers is a ring, as point 1.2 says it."""
+    items = [item for item, index in ring]
+    if len(ring) < 2 or any(items.count(item) > 1 for item in items):
+        return False
+    for place, (item, index) in enumerate(ring):
+        follower = items[(place + 1) % len(items)]
+        if index not in range(len(lists)):
+            return False
+        if (item, follower) not in list(itertools.combinations(lists[index], 2)):
+            return False
+    return True
 
 
 class Model:
@@ -195,7 +210,8 @@ class Model:
             concerned.remove(place)
             new.look_at(place)
             if self.living(place) and self.layout(place) != new.layout(place):
-                raise Refused("LayoutMoves", number=place, offset=first_difference(self.layout(place), new.layout(place)))
+                offset = first_difference(self.layout(place), new.layout(place))
+                raise Refused("LayoutMoves", number=place, offset=offset)
         return new
 
     def spoilt_by(self, number, bases):
@@ -246,17 +262,10 @@ class Model:
         return found[2]
 
     def write(self, item, name, value):
-        place = self.place(item, name)
-        if place is None:
-            raise Refused("NoName", name=name)
-        place[0][place[1]] = value
+        put(self.place(item, name), name, value)
 
     def erase(self, item, name):
-        place = self.place(item, name)
-        if place is None or place[1] not in place[0]:
-            is_cell = place is not None and isinstance(place[1], int)
-            raise Refused("NotSet" if is_cell else "NoName", name=name)
-        del place[0][place[1]]
+        take(self.place(item, name), name)
 
     def cells(self, item):
         cells = self.item(item)["cells"]
@@ -275,6 +284,72 @@ class Model:
 
     def twins(self, number):
         return [place for place in range(self.count()) if self.layout(place) == self.layout(number)]
+
+
+class PlainMachine:
+    """Kept readers over a model: points 9.1 to 9.4."""
+
+    def __init__(self, model):
+        self.model = model
+        self.readers = {}
+        self.walks = 0
+
+    def reader(self, item, name):
+        key = (self.model.item(item)["class"], name)
+        if key not in self.readers:
+            self.walks += 1
+            self.readers[key] = self.model.reader(*key)
+        return self.readers[key]
+
+    def place(self, item, name):
+        """Return the table and the key that the kept reader tells, or None if it tells nothing."""
+        kept = self.reader(item, name)
+        body = self.model.item(item)
+        if kept is not None and kept[0] == "field" and kept[1] in range(len(self.model.cells(item))):
+            return (body["cells"], kept[1])
+        return (body["room"], name) if self.model.has_room(body["class"]) else None
+
+    def read(self, item, name):
+        place = self.place(item, name)
+        if place is not None and place[1] in place[0]:
+            return place[0][place[1]]
+        if place is not None and place[1] != name:
+            raise Refused("NotSet", name=name)
+        kept = self.reader(item, name)
+        if kept is not None and kept[0] == "value" and name in self.model.tables[kept[1]]:
+            return self.model.tables[kept[1]][name]
+        raise Refused("NoName", name=name)
+
+    def write(self, item, name, value):
+        put(self.place(item, name), name, value)
+
+    def erase(self, item, name):
+        take(self.place(item, name), name)
+
+    def told(self, spoilt):
+        for key in spoilt:
+            self.readers.pop(key, None)
+
+    def kept(self):
+        return [(*key, self.readers[key]) for key in sorted(self.readers)]
+
+    def stale(self):
+        return [key for key in sorted(self.readers) if self.readers[key] != self.model.reader(*key)]
+
+
+def put(place, name, value):
+    """Put a value where a table and a key say."""
+    if place is None:
+        raise Refused("NoName", name=name)
+    place[0][place[1]] = value
+
+
+def take(place, name):
+    """Take away what stands where a table and a key say."""
+    if place is None or place[1] not in place[0]:
+        is_cell = place is not None and isinstance(place[1], int)
+        raise Refused("NotSet" if is_cell else "NoName", name=name)
+    del place[0][place[1]]
 
 
 def first_difference(one, other):

@@ -1,4 +1,4 @@
-"""The examples of the document that use the modules so far, and those of the README."""
+"""The examples of the document, and those of the README."""
 
 import doctest
 import os
@@ -41,7 +41,7 @@ class Document(unittest.TestCase):
 
     def test_its_examples(self):
         examples = read_examples()
-        self.assertEqual(len(examples), 33)
+        self.assertEqual(len(examples), 43)
         for statements, told in examples:
             with self.subTest(statements=statements):
                 names = {}

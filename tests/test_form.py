@@ -21,6 +21,9 @@ FUNCTIONS = {
         "set_value": ["world", "number", "name", "value"], "drop_value": ["world", "number", "name"],
         "set_bases": ["world", "number", "bases"], "spoilt_by": ["world", "number", "bases"],
     },
+    "judges.py": {"shows_collision": ["world", "bases", "paper"], "shows_ring": ["world", "bases", "paper"]},
+    "meetings.py": {"largest": ["world", "classes"], "base_orders": ["world", "classes"]},
+    "runs.py": {"run": ["world", "objects", "steps"]},
 }
 CLASSES = {
     "layouts.py": {
@@ -43,6 +46,12 @@ CLASSES = {
             "__init__": ["world"], "new": ["number"], "class_of": ["item"], "drop": ["item"], "alive": [],
             "read": ["item", "name"], "write": ["item", "name", "value"], "erase": ["item", "name"],
             "cells": ["item"], "room": ["item"], "set_class": ["item", "number"], "twins": ["number"],
+        },
+    },
+    "machines.py": {
+        "Machine": {
+            "__init__": ["objects"], "read": ["item", "name"], "write": ["item", "name", "value"],
+            "erase": ["item", "name"], "told": ["spoilt"], "walks": [], "kept": [], "stale": [],
         },
     },
 }
@@ -184,6 +193,8 @@ class Rules(unittest.TestCase):
                 for node in ast.walk(function):
                     if isinstance(node, ast.arg):
                         self.assertNotIn(node.arg, taken, path)
+                    if isinstance(node, ast.MatchAs):
+                        self.assertNotIn(node.name, [*taken, *dir(builtins)], path)
                     if isinstance(node, ast.Name) and isinstance(node.ctx, ast.Store):
                         self.assertNotIn(node.id, taken, path)
 

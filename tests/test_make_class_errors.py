@@ -6,17 +6,10 @@ import unittest
 from layoutline.errors import BadList, BadName, BadValue, Duplicate, HasRoom, NoClass, TooMany
 from layoutline.worlds import World
 from tests.helpers import (
-    NOT_NAMES, Case, EqualToAll, chain, not_names, not_numbers, not_values, odd_values, picture_of_world,
+    NOT_NAMES, WRONG_BASES, Case, EqualToAll, chain, not_names, not_numbers, not_values, odd_values, picture_of_world,
 )
 
 # For each argument, wrong ones in the order in which their errors are stated, and each with faults stated later.
-WRONG_BASES = [
-    ((0, "no list"), BadList, {"why": "bases"}),
-    ([], BadList, {"why": "bases"}),
-    ([1, 1, 26, 27, 2, 3, 4], NoClass, {"number": 26}),
-    ([1, 2, 3, 4, 5, 2, 1], Duplicate, {"thing": 2}),
-    ([1, 2, 3, 4, 5, 6], TooMany, {"limit": 5}),
-]
 WRONG_FIELDS = [
     (("a", "no list"), BadList, {"why": "fields"}),
     (["a", "a", "b", "c", "d", "B", "C"], BadName, {"name": "B"}),

@@ -332,7 +332,8 @@ class SetClass(Case):
     def test_other_layouts(self):
         before = picture_of_world(self.world)
         for old, new, offset in [
-            (1, 0, 0), (0, 1, 0), (1, 2, 1), (2, 1, 1), (1, 4, 2), (4, 1, 2), (1, 6, 1), (1, 7, 2), (7, 1, 2), (7, 6, 1),
+            (1, 0, 0), (0, 1, 0), (1, 2, 1), (2, 1, 1), (1, 4, 2), (4, 1, 2), (1, 6, 1), (1, 7, 2), (7, 1, 2),
+            (7, 6, 1),
         ]:
             item = self.objects.new(old)
             self.assert_keeps(

@@ -7,21 +7,7 @@ import unittest
 from layoutline.errors import BadList, Duplicate, TooMany
 from layoutline.orders import merge, shows_merge
 from tests.helpers import Case, EqualToAll, Incomparable, odd_values
-from tests.model import plain_merge
-
-
-def plain_ring(lists, ring):
-    """Tell whether a list of tuples of two integers is a ring, as point 1.2 says it."""
-    items = [item for item, index in ring]
-    if len(ring) < 2 or any(items.count(item) > 1 for item in items):
-        return False
-    for place, (item, index) in enumerate(ring):
-        follower = items[(place + 1) % len(items)]
-        if index not in range(len(lists)):
-            return False
-        if (item, follower) not in list(itertools.combinations(lists[index], 2)):
-            return False
-    return True
+from tests.model import plain_merge, plain_ring
 
 
 def any_order(lists):
