@@ -2,7 +2,7 @@
 
 from layoutline.checks import MOST_VALUES, check_bases, check_class, check_name, check_value
 from layoutline.errors import BelowItself, Duplicate, LayoutMoves, NoName, TooMany
-from layoutline.finding import first_declarations, reader_of
+from layoutline.finding import first_declaration, first_declarations, reader_of
 from layoutline.shapes import Shape
 from layoutline.tables import sorted_names
 
@@ -14,22 +14,22 @@ def set_value(world, number, name, value):
     check_value(value)
     if name in world.fields(number):
         raise Duplicate(name)
-    table = world.tables()[number]
+    table = world.table(number)
     if name not in table and len(table) >= MOST_VALUES:
         raise TooMany(MOST_VALUES)
     table[name] = value
-    return _change_table(world, number, table)
+    return _change_table(world, number, name, table)
 
 
 def drop_value(world, number, name):
     """Take the value by a name away from a class and return the spoilt readers."""
     check_class(number, world.count())
     check_name(name)
-    table = world.tables()[number]
+    table = world.table(number)
     if name not in table:
         raise NoName(name)
     del table[name]
-    return _change_table(world, number, table)
+    return _change_table(world, number, name, table)
 
 
 def set_bases(world, number, bases):
@@ -45,12 +45,19 @@ def spoilt_by(world, number, bases):
     return _spoilt_by_shapes(world, _shapes_with_bases(world, number, bases))
 
 
-def _change_table(world, number, table):
-    tables = world.tables()
-    before = _readers(world.shapes(), tables)
-    tables[number] = table
+def _change_table(world, number, name, table):
+    """Give a class a table that is another one by this name alone."""
+    before = _readers_by(world, name)
     world.replace_table(number, table)
-    return _spoilt(before, _readers(world.shapes(), tables))
+    after = _readers_by(world, name)
+    return [(place, name) for place, old in enumerate(before) if old != after[place]]
+
+
+def _readers_by(world, name):
+    """Return by class the reader by a name."""
+    shapes = world.shapes()
+    tables = world.tables()
+    return [reader_of(first_declaration(place, name, shapes, tables)) for place in range(len(shapes))]
 
 
 def _spoilt_by_shapes(world, shapes):

@@ -9,13 +9,12 @@ def find(world, number, name):
     """Return ("field", class, offset), ("value", class, value) or None: the first declaration of a name."""
     check_class(number, world.count())
     check_name(name)
-    return first_declarations(number, world.shapes(), world.tables()).get(name)
+    return first_declaration(number, name, world.shapes(), world.tables())
 
 
 def reader(world, number, name):
     """Return ("field", offset), ("value", class) or None, for what find returns."""
-    found = find(world, number, name)
-    return None if found is None else reader_of(found)
+    return reader_of(find(world, number, name))
 
 
 def names_of(world, number):
@@ -45,19 +44,31 @@ def could_meet(world, numbers):
     return collision_of(numbers, world.shapes())
 
 
+def first_declaration(number, name, shapes, tables):
+    """Return what find returns for a class, where shapes and tables are those of all classes."""
+    for place in shapes[number].order():
+        offset = shapes[place].own_offset(name)
+        if offset is not None:
+            return ("field", place, offset)
+        if name in tables[place]:
+            return ("value", place, tables[place][name])
+    return None
+
+
 def first_declarations(number, shapes, tables):
-    """Return by name what find returns for a class, where shapes and tables are those of all classes."""
+    """Return by name what find returns for a class, of all names that are found."""
     found = {}
     for place in shapes[number].order():
-        layout = shapes[place].layout()
         for name in shapes[place].fields():
-            found.setdefault(name, ("field", place, layout.offset_of(name)))
+            found.setdefault(name, ("field", place, shapes[place].own_offset(name)))
         for name, value in tables[place].items():
             found.setdefault(name, ("value", place, value))
     return found
 
 
 def reader_of(found):
-    """Return the reader for a declaration that find returns."""
+    """Return the reader for what find returns."""
+    if found is None:
+        return None
     word, place, thing = found
     return ("field", thing) if word == "field" else ("value", place)

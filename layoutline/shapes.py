@@ -15,6 +15,8 @@ class Shape:
         if roomy:
             _check_room(number, bases, shapes)
         self._layout = _layout_of(bases, fields, roomy, above, shapes)
+        first = len(self._layout) - len(fields)
+        self._offsets = {name: first + at for at, name in enumerate(fields)}
         self._line = [number] + above if fields or not bases else above
         self._bases = list(bases)
         self._fields = list(fields)
@@ -27,6 +29,10 @@ class Shape:
     def fields(self):
         """Return the list of the fields that the class itself declares."""
         return list(self._fields)
+
+    def own_offset(self, name):
+        """Return the offset of a field that the class itself declares, or None for another name."""
+        return self._offsets.get(name)
 
     def declares_room(self):
         """Tell whether the class itself declares the room."""

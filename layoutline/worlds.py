@@ -85,8 +85,8 @@ class World:
         return list(self._shapes)
 
     def tables(self):
-        """Return by class the tables from its names to its values."""
-        return [dict(table) for table in self._tables]
+        """Return by class the tables from its names to its values; they are only read."""
+        return list(self._tables)
 
     def table(self, number):
         """Return the table from the names to the values of a class."""
