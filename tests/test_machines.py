@@ -260,6 +260,14 @@ class StaleFields(Start):
         self.machine.write(item, "b", 3)
         self.assertEqual([self.machine.read(item, "b"), self.objects.read(item, "b")], [3, 3])
 
+    def test_no_cell_at_the_offset_and_a_value_of_the_class_of_this_number(self):
+        for roomy in (False, True):
+            item = self.keep_readers_of_a_greater_layout(roomy)
+            self.assertIn((8, "c", ("field", 2)), self.machine.kept())
+            set_value(self.world, 2, "c", 9)
+            self.assert_nothing(item, "c")
+            self.setUp()
+
     def test_the_cell_of_another_field(self):
         for roomy in (False, True):
             item = self.keep_readers_of_a_greater_layout(roomy)
