@@ -4,6 +4,7 @@ import unittest
 
 from layoutline.errors import BadList, Collision, Duplicate, NoClass, NoOrder, TooMany
 from layoutline.orders import merge, shows_merge
+from layoutline.worlds import World
 
 # The letters at the end look like a to z, or stand right beside them, and are none of them.
 NOT_NAMES = [
@@ -86,6 +87,16 @@ def chain(world, many):
     """Make so many more classes, each with the last one as its only base."""
     for _ in range(many):
         world.make_class([world.count() - 1], [])
+
+
+def world_of_lines():
+    """Return a world with three lines: 0 1 2, 0 1 3 6 and 0 8; 4, 5 and 7 own nothing."""
+    world = World()
+    for bases, fields in [
+        ([0], ["a"]), ([1], ["b"]), ([1], ["c", "d"]), ([3], []), ([2], []), ([3], ["e"]), ([0], []), ([0], ["a"]),
+    ]:
+        world.make_class(bases, fields)
+    return world
 
 
 def picture_of_world(world):

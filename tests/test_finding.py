@@ -8,7 +8,9 @@ from layoutline.changes import set_value
 from layoutline.errors import BadList, BadName, NoClass
 from layoutline.finding import could_meet, find, hidden, names_of, reader
 from layoutline.worlds import World
-from tests.helpers import Case, EqualToAll, not_names, not_numbers, odd_values, picture_of_world
+from tests.helpers import (
+    Case, EqualToAll, not_names, not_numbers, odd_values, picture_of_world, world_of_lines,
+)
 
 
 def mixed_world():
@@ -144,11 +146,7 @@ class Names(Case):
 class Meeting(Case):
 
     def setUp(self):
-        self.world = World()
-        for bases, fields in [
-            ([0], ["a"]), ([1], ["b"]), ([1], ["c", "d"]), ([3], []), ([2], []), ([3], ["e"]), ([0], []), ([0], ["a"]),
-        ]:
-            self.world.make_class(bases, fields)
+        self.world = world_of_lines()
 
     def test_owners_on_one_line(self):
         for numbers in [[], [0], [4], [4, 4], [1, 2], [2, 1], [5, 2, 1, 0, 7], [6, 3, 4, 3, 6], [0, 0, 7, 7]]:

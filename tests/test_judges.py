@@ -10,19 +10,10 @@ from layoutline.judges import shows_collision, shows_ring
 from layoutline.worlds import World
 from tests.helpers import (
     NOT_NAMES, WRONG_BASES, Case, EqualToAll, Incomparable, chain, not_numbers, odd_values, picture_of_world,
+    world_of_lines,
 )
 from tests.model import plain_ring
 from tests.pairs import Pair
-
-
-def world_of_lines():
-    """Return a world with three lines: 0 1 2, 0 1 3 6 and 0 8; 4, 5 and 7 own nothing."""
-    world = World()
-    for bases, fields in [
-        ([0], ["a"]), ([1], ["b"]), ([1], ["c", "d"]), ([3], []), ([2], []), ([3], ["e"]), ([0], []), ([0], ["a"]),
-    ]:
-        world.make_class(bases, fields)
-    return world
 
 
 def world_of_rings():
